@@ -1,0 +1,1 @@
+"""Pages ranked by walks, told exactly in fractions."""

@@ -59,3 +59,14 @@ def total(some):
     for each in some:
         whole = plus(whole, each)
     return whole
+
+
+def shared_below(some):
+    whole = 1
+    for each in some:
+        whole = whole // common(whole, each[1]) * each[1]
+    return whole
+
+
+def aboves(some, below):
+    return [each[0] * (below // each[1]) for each in some]

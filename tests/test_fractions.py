@@ -2,7 +2,7 @@ import fractions
 import itertools
 import unittest
 
-from pagewalks.fractions import by, is_fraction, is_less, less, made, plus, times
+from pagewalks.fractions import aboves, by, is_fraction, is_less, less, made, plus, shared_below, times
 from things import no_wholes, odd_things
 
 SMALL = [(above, below) for below in range(1, 7) for above in range(-9, 10)
@@ -185,3 +185,18 @@ class Reckoned(unittest.TestCase):
         self.assertEqual(plus(one, other), parts(same(one) + same(other)))
         self.assertEqual(times(one, other), parts(same(one) * same(other)))
         self.assertIs(is_less(other, one), True)
+
+
+class OverOne(unittest.TestCase):
+    """Fractions brought over one divisor, on which steps and shares rest."""
+
+    def test_the_least_number_that_all_divide(self):
+        for some, below in [((), 1), (((0, 1),), 1), (((1, 2), (1, 3)), 6), (((1, 4), (5, 6), (-1, 4)), 12),
+                            (((1, 10 ** 12), (1, 10 ** 6)), 10 ** 12)]:
+            with self.subTest(some):
+                self.assertEqual(shared_below(some), below)
+
+    def test_numbers_over_it(self):
+        self.assertEqual(aboves(((1, 4), (5, 6), (-1, 4), (0, 1)), 12), [3, 10, -3, 0])
+        self.assertEqual(aboves(((1, 4), (5, 6)), 24), [6, 20])
+        self.assertEqual(aboves((), 1), [])

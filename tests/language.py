@@ -28,6 +28,12 @@ NODES = set(
     "Mult Mod Pow LShift RShift BitOr BitXor BitAnd FloorDiv Invert Not UAdd USub Eq NotEq Lt LtE Gt GtE Is IsNot In "
     "NotIn".split())
 BUILT_IN = set(dir(builtins))
+OWN_KINDS = (str, int, list, dict, set, bytes, tuple)
+FREE_VALUES = set("count index title find get join lower upper split strip copy add".split())
+WALKED = {"zip", "enumerate", "reversed", "range"}
+WALKERS = set("list tuple dict sorted sum any all enumerate zip min max".split())
+KEYWORDS = {"sorted": ("key", "reverse"), "min": ("key", "default"), "max": ("key", "default"), "sum": ("start",),
+            "enumerate": ("start",), "zip": ("strict",)}
 
 
 def line_faults(text):
@@ -149,6 +155,62 @@ def def_faults(node):
         yield "L21 annotation"
 
 
+def own_values(tree):
+    return {node.attr for node in ast.walk(tree) if isinstance(node, ast.Attribute) and isinstance(node.ctx, ast.Store)}
+
+
+def class_faults(methods, values):
+    """Of all the package's methods and values."""
+    for name in sorted(methods & values):
+        yield f"L18 {name} is a method and a value"
+    for name in sorted(values - FREE_VALUES):
+        if any(hasattr(kind, name) for kind in OWN_KINDS):
+            yield f"L26 value {name}"
+    for name in sorted(methods - METHODS - DUNDERS - {"add", "discard"}):
+        if any(hasattr(kind, name) for kind in OWN_KINDS):
+            yield f"L26 method {name}"
+
+
+def local_faults(tree):
+    at_top = {each.name for node in tree.body if isinstance(node, ast.ImportFrom) for each in node.names}
+    at_top |= {node.name for node in tree.body if isinstance(node, ast.ClassDef)}
+    for node in ast.walk(tree):
+        name = node.arg if isinstance(node, ast.arg) else None
+        if isinstance(node, ast.Name) and isinstance(node.ctx, ast.Store):
+            name = node.id
+        if name in at_top:
+            yield f"L15 line {node.lineno} {name} is a class or an import of the file"
+
+
+def called_name(node):
+    return node.func.id if isinstance(node, ast.Call) and isinstance(node.func, ast.Name) else None
+
+
+def is_walked(node, above):
+    if isinstance(above, (ast.For, ast.comprehension)):
+        return above.iter is node
+    if isinstance(above, ast.Call) and above.args and above.args[0] is node:
+        return called_name(above) in WALKERS or isinstance(above.func, ast.Attribute) and above.func.attr == "join"
+    return called_name(above) == "zip"
+
+
+def place_faults(tree):
+    """What hangs on where a call stands."""
+    for above in ast.walk(tree):
+        for node in ast.iter_child_nodes(above):
+            name = called_name(node)
+            method = node.func.attr if isinstance(node, ast.Call) and isinstance(node.func, ast.Attribute) else None
+            if (name in WALKED or method in ("items", "keys", "values")) and not is_walked(node, above):
+                yield f"L23 line {node.lineno} {name or method} is not walked at once"
+            if name in ("set", "frozenset") and called_name(above) not in ("sorted", "len"):
+                if not isinstance(above, (ast.Compare, ast.BinOp)):
+                    yield f"L24 line {node.lineno} set"
+            if name in BUILT_IN or method in METHODS:
+                for each in node.keywords:
+                    if each.arg not in KEYWORDS.get(name, ()):
+                        yield f"L22 line {node.lineno} keyword {each.arg}"
+
+
 def called_methods(tree):
     for node in ast.walk(tree):
         if isinstance(node, ast.Call) and isinstance(node.func, ast.Attribute):
@@ -158,6 +220,9 @@ def called_methods(tree):
 def faults(text, package, known_methods=()):
     tree = ast.parse(text)
     found = list(line_faults(text)) + list(name_faults(tree)) + list(top_faults(tree, package))
+    found.extend(local_faults(tree))
+    found.extend(place_faults(tree))
+    found.extend(class_faults(own_methods(tree), own_values(tree)))
     for node in ast.walk(tree):
         found.extend(f"line {getattr(node, 'lineno', 0)}: {each}" for each in node_faults(node))
     for name in sorted(set(called_methods(tree)) - METHODS - own_methods(tree) - set(known_methods)):

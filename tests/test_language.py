@@ -29,6 +29,12 @@ class Kept(unittest.TestCase):
             with self.subTest(name):
                 self.assertEqual(language.faults(text, PACKAGE, known), [])
 
+    def test_methods_and_values_over_the_whole_package(self):
+        trees = [ast.parse(text) for text in texts().values()]
+        methods = set().union(*[language.own_methods(tree) for tree in trees])
+        values = set().union(*[language.own_values(tree) for tree in trees])
+        self.assertEqual(list(language.class_faults(methods, values)), [])
+
     def test_each_name_is_drawn_from_the_file_that_defines_it(self):
         files = texts()
         for name, text in files.items():
@@ -86,12 +92,22 @@ class Seen(unittest.TestCase):
             ("L14", "def f(a):\n\treturn a\n"),
             ("L15", "A = 1\nA = 2\n"),
             ("L15", "def f(sum):\n    return sum\n"),
+            ("L15", "from pagewalks.webs import even\n\n\ndef f(even):\n    return even\n"),
+            ("L15", "from pagewalks.webs import even\n\n\ndef f(a):\n    even = a\n    return even\n"),
             ("L17", "# the type of a thing\n"),
             ("L17", "def f(a):\n    return a.format\n"),
+            ("L18", "class A:\n    def now(self):\n        self.now = 1\n"),
             ("L19", "def f(a):\n    try:\n        return a\n    except Exception:\n        return 1\n"),
             ("L20", "def f(a):\n    return a is f\n"),
             ("L21", "def f(a: int):\n    return a\n"),
+            ("L22", "def f(a):\n    return sorted(a, cmp=f)\n"),
+            ("L22", "def f(a):\n    return a.split(sep=a)\n"),
+            ("L23", "def f(a):\n    b = zip(a, a)\n    return b\n"),
+            ("L23", "def f(a):\n    return a.items()\n"),
+            ("L24", "def f(a):\n    return [b for b in set(a)]\n"),
             ("L25", "def f(a):\n    a.sort()\n"),
+            ("L26", "class A:\n    def __init__(self):\n        self.items = 1\n"),
+            ("L26", "class A:\n    def encode(self):\n        return 1\n"),
             ("L27", "def f(a):\n    return 2 ** a\n"),
             ("L27", 'A = "%"\n'),
         ]:

@@ -1,4 +1,4 @@
-"""Steps of a walk: the ways from a page, and the row behind a step."""
+"""Steps of a walk: the ways from a page, and the row behind one step or several."""
 
 from pagewalks.fractions import ONE, aboves, less, made, plus, shared_below, times
 from pagewalks.webs import leads
@@ -15,14 +15,23 @@ def ways(web, leap, leaps, page):
     return tuple([way(leap, share, ends.count(there), len(ends)) for there, share in enumerate(leaps)])
 
 
-def weighed(numbers, below, column):
-    # All goes over one divisor and is brought to least numbers once: rows of some thousand figures stay quick.
-    other = shared_below(column)
-    return made(sum([one * two for one, two in zip(numbers, aboves(column, other))]), below * other)
+def moved(numbers, from_each):
+    return [sum([number * each[there] for number, each in zip(numbers, from_each)]) for there in range(len(numbers))]
+
+
+def behind_several(web, leap, leaps, row, many):
+    # All goes over one divisor and is brought to least numbers once, at the end: rows of some thousand figures stay
+    # quick, also over many steps.
+    table = [ways(web, leap, leaps, page) for page in range(web[0])]
+    step = shared_below(sum(table, start=()))
+    from_each = [aboves(each, step) for each in table]
+    below = shared_below(row)
+    numbers = aboves(row, below)
+    for turn in range(many):
+        numbers = moved(numbers, from_each)
+        below = below * step
+    return tuple([made(each, below) for each in numbers])
 
 
 def behind(web, leap, leaps, row):
-    from_each = [ways(web, leap, leaps, page) for page in range(web[0])]
-    below = shared_below(row)
-    numbers = aboves(row, below)
-    return tuple([weighed(numbers, below, [each[there] for each in from_each]) for there in range(web[0])])
+    return behind_several(web, leap, leaps, row, 1)

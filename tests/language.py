@@ -122,6 +122,8 @@ def node_faults(node):
         yield "L7 value"
     if isinstance(node, ast.Constant) and isinstance(node.value, str) and "%" in node.value:
         yield "L27 percent sign in a text"
+    if isinstance(node, ast.FormattedValue) and (not isinstance(node.value, ast.Name) or node.format_spec):
+        yield "L7 f-string"
     if isinstance(node, ast.FunctionDef):
         yield from def_faults(node)
     if isinstance(node, ast.ClassDef) and (len(node.bases) > 1 or node.decorator_list or node.keywords):

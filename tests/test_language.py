@@ -82,6 +82,8 @@ class Seen(unittest.TestCase):
             ("L7", "def f(a):\n    return 1.5\n"),
             ("L7", "def f(a):\n    return any(b for b in a)\n"),
             ("L7", "def f(a):\n    return {b: 1 for b in a}\n"),
+            ("L7", "def f(a):\n    return f'{a[0]}'\n"),
+            ("L7", "def f(a):\n    return f'{a:>3}'\n"),
             ("L8", "def f(a):\n    return hash(a)\n"),
             ("L8", "def f(a):\n    return chr(a)\n"),
             ("L10", "A = 1\n" * 401),
